@@ -1,0 +1,125 @@
+// Package hoard: bytes over several drives, some of which may be lost: see DOC.md.
+package hoard
+
+import (
+	"hoard/api"
+	"hoard/field"
+)
+
+// Hoard keeps bytes on drives.
+type Hoard struct {
+	shape  api.Shape
+	drives [api.MaxData + api.MaxParity]drive
+	steps  int
+}
+
+// Mul multiplies in the field (P3).
+func Mul(a uint8, b uint8) uint8 {
+	return field.Mul(a, b)
+}
+
+// Div divides in the field (P3).
+func Div(a uint8, b uint8) (uint8, api.Errno) {
+	if b == 0 {
+		return 0, api.ErrArg
+	}
+	return field.Div(a, b), api.OK
+}
+
+// New makes a hoard (P4).
+func New(s api.Shape) (*Hoard, api.Errno) {
+	if !isShape(s) {
+		return nil, api.ErrShape
+	}
+	return &Hoard{shape: s}, api.OK
+}
+
+// Read gives bytes (P5).
+func (h *Hoard) Read(from int, n int) ([]byte, api.Errno) {
+	if !h.hasBytes(from, n) {
+		return nil, api.ErrRange
+	}
+	out := make([]byte, n)
+	for i := 0; i < n; i++ {
+		at := from + i
+		c, row := h.place(at / api.Block)
+		out[i] = h.drives[c].cells[row][at%api.Block]
+	}
+	return out, api.OK
+}
+
+// Write lays bytes (P6).
+func (h *Hoard) Write(from int, data []byte) api.Errno {
+	if !h.hasBytes(from, len(data)) {
+		return api.ErrRange
+	}
+	end := from + len(data)
+	for block := from / api.Block; block*api.Block < end; block++ {
+		h.writeBlock(block, from, data)
+	}
+	return api.OK
+}
+
+// Steps tells how many steps were done (P4).
+func (h *Hoard) Steps() (int, api.Errno) {
+	return h.steps, api.OK
+}
+
+// Drive tells how a drive is (P4).
+func (h *Hoard) Drive(d int) (api.Drive, api.Errno) {
+	if !h.isDrive(d) {
+		return api.Drive{}, api.ErrDrive
+	}
+	return api.Drive{Records: len(h.drives[d].log)}, api.OK
+}
+
+// Cell gives the bytes of a cell (P7).
+func (h *Hoard) Cell(d int, row int) (api.Cell, api.Errno) {
+	if !h.isDrive(d) {
+		return api.Cell{}, api.ErrDrive
+	}
+	if !h.isRow(row) {
+		return api.Cell{}, api.ErrArg
+	}
+	return h.drives[d].cells[row], api.OK
+}
+
+// Log gives the records of a log (P7).
+func (h *Hoard) Log(d int) ([]api.Record, api.Errno) {
+	if !h.isParity(d) {
+		return nil, api.ErrDrive
+	}
+	return append([]api.Record{}, h.drives[d].log...), api.OK
+}
+
+// Merge merges records (P7).
+func (h *Hoard) Merge(d int, n int) (int, api.Errno) {
+	if !h.isParity(d) {
+		return 0, api.ErrDrive
+	}
+	if n < 1 {
+		return 0, api.ErrArg
+	}
+	return h.drives[d].merge(n), api.OK
+}
+
+// Fail loses a drive (P8).
+func (h *Hoard) Fail(d int) api.Errno { return api.OK }
+
+// Replace puts a blank drive in the place of a lost one (P8).
+func (h *Hoard) Replace(d int) api.Errno { return api.OK }
+
+// Rebuild builds cells (P9).
+func (h *Hoard) Rebuild(d int, n int) (int, api.Errno) { return 0, api.OK }
+
+// Break lets the hoard go down later (P10).
+func (h *Hoard) Break(n int) api.Errno { return api.OK }
+
+// Mount brings the hoard up again (P11).
+func (h *Hoard) Mount() api.Errno { return api.OK }
+
+// Corrupt lets a byte go bad (P12).
+func (h *Hoard) Corrupt(d int, row int, at int, by uint8) api.Errno { return api.OK }
+
+// Scrub looks whether a row's bytes are right, and mends them (P13).
+func (h *Hoard) Scrub(row int) (int, api.Errno) { return 0, api.OK }
