@@ -5,10 +5,55 @@ import (
 	"hoard/field"
 )
 
-// drive is what lies on one drive; the log of a data drive stays empty.
+// drive is what lies on one drive. The log of a data drive stays empty, and a
+// log has records of built cells alone.
 type drive struct {
-	cells [api.MaxRows]api.Cell
-	log   []api.Record
+	lost    bool
+	unbuilt [api.MaxRows]bool
+	cells   [api.MaxRows]api.Cell
+	log     []api.Record
+}
+
+// blankDrive gives a live drive of which no cell is built.
+func blankDrive(rows int) drive {
+	d := drive{}
+	for row := 0; row < rows && row < api.MaxRows; row++ {
+		d.unbuilt[row] = true
+	}
+	return d
+}
+
+// has tells whether the cell in the row is available.
+func (d *drive) has(row int) bool {
+	return !d.lost && !d.unbuilt[row]
+}
+
+// countUnbuilt tells how many cells are not built.
+func (d *drive) countUnbuilt() int {
+	n := 0
+	for row := 0; row < api.MaxRows; row++ {
+		if d.unbuilt[row] {
+			n++
+		}
+	}
+	return n
+}
+
+// lay lays bytes into the cell in the row, which is then built.
+func (d *drive) lay(row int, c api.Cell) {
+	d.cells[row] = c
+	d.unbuilt[row] = false
+}
+
+// value gives the bytes of the cell in the row with those that the log has for it.
+func (d *drive) value(row int) api.Cell {
+	sum := d.cells[row]
+	for i := 0; i < len(d.log); i++ {
+		if d.log[i].Row == row {
+			sum = field.Add(sum, d.log[i].Bytes)
+		}
+	}
+	return sum
 }
 
 // note appends a record to the log, which has room for so many records.

@@ -69,7 +69,7 @@ func wantLog(t *testing.T, h *hoard.Hoard, d int, want ...api.Record) {
 		t.Errorf("P7: Log(%d) = %v, %d, want %v", d, l, e, want)
 	}
 	x, e := h.Drive(d)
-	if e != api.OK || x != (api.Drive{Records: len(want)}) {
+	if e != api.OK || x.Lost || x.Records != len(want) {
 		t.Errorf("P4: Drive(%d) = %+v, %d, want %d records", d, x, e, len(want))
 	}
 }
@@ -94,43 +94,126 @@ func record(row int, a, b, c, d byte) api.Record {
 	return api.Record{Row: row, Bytes: api.Cell{a, b, c, d}}
 }
 
-// state is all that can be seen of a hoard.
+func fail(t *testing.T, h *hoard.Hoard, drives ...int) {
+	t.Helper()
+	for _, d := range drives {
+		if e := h.Fail(d); e != api.OK {
+			t.Fatalf("P8: Fail(%d) = %d", d, e)
+		}
+	}
+}
+
+func replace(t *testing.T, h *hoard.Hoard, drives ...int) {
+	t.Helper()
+	for _, d := range drives {
+		if e := h.Replace(d); e != api.OK {
+			t.Fatalf("P8: Replace(%d) = %d", d, e)
+		}
+	}
+}
+
+func wantRebuild(t *testing.T, h *hoard.Hoard, d, n, want int) {
+	t.Helper()
+	k, e := h.Rebuild(d, n)
+	if e != api.OK || k != want {
+		t.Errorf("P9: Rebuild(%d, %d) = %d, %d, want %d", d, n, k, e, want)
+	}
+}
+
+func wantDrive(t *testing.T, h *hoard.Hoard, d int, want api.Drive) {
+	t.Helper()
+	x, e := h.Drive(d)
+	if e != api.OK || x != want {
+		t.Errorf("P4: Drive(%d) = %+v, %d, want %+v", d, x, e, want)
+	}
+}
+
+func wantNoCell(t *testing.T, h *hoard.Hoard, d, row int) {
+	t.Helper()
+	c, e := h.Cell(d, row)
+	if e != api.ErrState || c != (api.Cell{}) {
+		t.Errorf("P7: Cell(%d, %d) = %v, %d, but it is not available", d, row, c, e)
+	}
+}
+
+func wantGone(t *testing.T, h *hoard.Hoard, from, n int) {
+	t.Helper()
+	l, e := h.Read(from, n)
+	if e != api.ErrLost || l != nil {
+		t.Errorf("P5: Read(%d, %d) = %v, %d, but it is gone", from, n, l, e)
+	}
+	if e := h.Write(from, make([]byte, n)); e != api.ErrLost {
+		t.Errorf("P6: Write(%d, %d bytes) = %d, but it is gone", from, n, e)
+	}
+}
+
+// state is all that can be seen of a hoard; what is gone or not available is nought.
 type state struct {
-	Bytes  []byte
-	Steps  int
-	Drives []api.Drive
-	Cells  [][]api.Cell
-	Logs   [][]api.Record
+	Bytes     []byte
+	Gone      []bool // of each block
+	Steps     int
+	Drives    []api.Drive
+	Cells     [][]api.Cell
+	Available [][]bool
+	Logs      [][]api.Record
 }
 
 func look(t *testing.T, h *hoard.Hoard, s api.Shape) state {
 	t.Helper()
 	var x state
-	errs := make([]api.Errno, 0, 64)
-	l, e := h.Read(0, size(s))
-	x.Bytes, errs = l, append(errs, e)
-	x.Steps, e = h.Steps()
-	errs = append(errs, e)
+	x.Bytes, x.Gone = lookAtBytes(t, h, s)
+	n, e := h.Steps()
+	if e != api.OK {
+		t.Fatalf("P4: Steps = %d, %d", n, e)
+	}
+	x.Steps = n
 	for d := range s.Data + s.Parity {
 		y, e := h.Drive(d)
-		x.Drives, errs = append(x.Drives, y), append(errs, e)
-		var column []api.Cell
+		if e != api.OK {
+			t.Fatalf("P4: shape %+v: Drive(%d) = %+v, %d", s, d, y, e)
+		}
+		x.Drives = append(x.Drives, y)
+		cells, available := make([]api.Cell, s.Rows), make([]bool, s.Rows)
 		for row := range s.Rows {
 			c, e := h.Cell(d, row)
-			column, errs = append(column, c), append(errs, e)
+			if e != api.OK && (e != api.ErrState || c != (api.Cell{})) {
+				t.Fatalf("P1, P7: shape %+v: Cell(%d, %d) = %v, %d", s, d, row, c, e)
+			}
+			cells[row], available[row] = c, e == api.OK
 		}
-		x.Cells = append(x.Cells, column)
-	}
-	for d := s.Data; d < s.Data+s.Parity; d++ {
+		x.Cells, x.Available = append(x.Cells, cells), append(x.Available, available)
+		if d < s.Data {
+			continue
+		}
 		k, e := h.Log(d)
-		x.Logs, errs = append(x.Logs, append([]api.Record{}, k...)), append(errs, e)
-	}
-	for _, e := range errs {
-		if e != api.OK {
-			t.Fatalf("P4, P5, P7: shape %+v: an error %d among %v", s, e, errs)
+		if y.Lost && (k != nil || e != api.ErrState) || !y.Lost && (len(k) != y.Records || e != api.OK) {
+			t.Fatalf("P1, P7: shape %+v: drive %+v: Log(%d) = %v, %d", s, y, d, k, e)
 		}
+		x.Logs = append(x.Logs, append([]api.Record{}, k...))
 	}
 	return x
+}
+
+// lookAtBytes reads block by block, and all at once.
+func lookAtBytes(t *testing.T, h *hoard.Hoard, s api.Shape) ([]byte, []bool) {
+	t.Helper()
+	var all []byte
+	var gone []bool
+	for b := range s.Data * s.Rows {
+		l, e := h.Read(b*4, 4)
+		if e != api.OK && (e != api.ErrLost || l != nil) || e == api.OK && len(l) != 4 {
+			t.Fatalf("P1, P5: shape %+v: Read(%d, 4) = %v, %d", s, b*4, l, e)
+		}
+		if e != api.OK {
+			l = make([]byte, 4)
+		}
+		all, gone = append(all, l...), append(gone, e != api.OK)
+	}
+	l, e := h.Read(0, size(s))
+	if slices.Contains(gone, true) && (l != nil || e != api.ErrLost) || !slices.Contains(gone, true) && (!slices.Equal(l, all) || e != api.OK) {
+		t.Fatalf("P5: shape %+v: Read of all = %v, %d, but blocks are %v, gone %v", s, l, e, all, gone)
+	}
+	return all, gone
 }
 
 func wantState(t *testing.T, h *hoard.Hoard, s api.Shape, want state, what string) {

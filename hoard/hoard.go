@@ -39,11 +39,15 @@ func (h *Hoard) Read(from int, n int) ([]byte, api.Errno) {
 	if !h.hasBytes(from, n) {
 		return nil, api.ErrRange
 	}
+	if h.isAnyGone(from, n) {
+		return nil, api.ErrLost
+	}
 	out := make([]byte, n)
 	for i := 0; i < n; i++ {
 		at := from + i
 		c, row := h.place(at / api.Block)
-		out[i] = h.drives[c].cells[row][at%api.Block]
+		cell := h.holds(c, row)
+		out[i] = cell[at%api.Block]
 	}
 	return out, api.OK
 }
@@ -53,8 +57,11 @@ func (h *Hoard) Write(from int, data []byte) api.Errno {
 	if !h.hasBytes(from, len(data)) {
 		return api.ErrRange
 	}
-	end := from + len(data)
-	for block := from / api.Block; block*api.Block < end; block++ {
+	if h.isAnyGone(from, len(data)) {
+		return api.ErrLost
+	}
+	first, end := blocks(from, len(data))
+	for block := first; block < end; block++ {
 		h.writeBlock(block, from, data)
 	}
 	return api.OK
@@ -70,7 +77,8 @@ func (h *Hoard) Drive(d int) (api.Drive, api.Errno) {
 	if !h.isDrive(d) {
 		return api.Drive{}, api.ErrDrive
 	}
-	return api.Drive{Records: len(h.drives[d].log)}, api.OK
+	x := &h.drives[d]
+	return api.Drive{Lost: x.lost, Unbuilt: x.countUnbuilt(), Records: len(x.log)}, api.OK
 }
 
 // Cell gives the bytes of a cell (P7).
@@ -81,6 +89,9 @@ func (h *Hoard) Cell(d int, row int) (api.Cell, api.Errno) {
 	if !h.isRow(row) {
 		return api.Cell{}, api.ErrArg
 	}
+	if !h.drives[d].has(row) {
+		return api.Cell{}, api.ErrState
+	}
 	return h.drives[d].cells[row], api.OK
 }
 
@@ -88,6 +99,9 @@ func (h *Hoard) Cell(d int, row int) (api.Cell, api.Errno) {
 func (h *Hoard) Log(d int) ([]api.Record, api.Errno) {
 	if !h.isParity(d) {
 		return nil, api.ErrDrive
+	}
+	if h.drives[d].lost {
+		return nil, api.ErrState
 	}
 	return append([]api.Record{}, h.drives[d].log...), api.OK
 }
@@ -97,6 +111,9 @@ func (h *Hoard) Merge(d int, n int) (int, api.Errno) {
 	if !h.isParity(d) {
 		return 0, api.ErrDrive
 	}
+	if h.drives[d].lost {
+		return 0, api.ErrState
+	}
 	if n < 1 {
 		return 0, api.ErrArg
 	}
@@ -104,13 +121,48 @@ func (h *Hoard) Merge(d int, n int) (int, api.Errno) {
 }
 
 // Fail loses a drive (P8).
-func (h *Hoard) Fail(d int) api.Errno { return api.OK }
+func (h *Hoard) Fail(d int) api.Errno {
+	if !h.isDrive(d) {
+		return api.ErrDrive
+	}
+	if h.drives[d].lost {
+		return api.ErrState
+	}
+	h.drives[d] = drive{lost: true}
+	return api.OK
+}
 
 // Replace puts a blank drive in the place of a lost one (P8).
-func (h *Hoard) Replace(d int) api.Errno { return api.OK }
+func (h *Hoard) Replace(d int) api.Errno {
+	if !h.isDrive(d) {
+		return api.ErrDrive
+	}
+	if !h.drives[d].lost {
+		return api.ErrState
+	}
+	h.drives[d] = blankDrive(h.shape.Rows)
+	return api.OK
+}
 
 // Rebuild builds cells (P9).
-func (h *Hoard) Rebuild(d int, n int) (int, api.Errno) { return 0, api.OK }
+func (h *Hoard) Rebuild(d int, n int) (int, api.Errno) {
+	if !h.isDrive(d) {
+		return 0, api.ErrDrive
+	}
+	if h.drives[d].lost {
+		return 0, api.ErrState
+	}
+	if n < 1 {
+		return 0, api.ErrArg
+	}
+	count := 0
+	for row := 0; row < h.shape.Rows && count < n; row++ {
+		if h.rebuildCell(d, row) {
+			count++
+		}
+	}
+	return count, api.OK
+}
 
 // Break lets the hoard go down later (P10).
 func (h *Hoard) Break(n int) api.Errno { return api.OK }

@@ -33,6 +33,16 @@ func (h *Hoard) hasBytes(from int, n int) bool {
 	return from >= 0 && n >= 0 && from <= all && n <= all-from
 }
 
+// blocks gives the first of the blocks in which n bytes from the byte from on
+// lie, and the one behind the last; without bytes there is none between them.
+func blocks(from int, n int) (int, int) {
+	first := from / api.Block
+	if n == 0 {
+		return first, first
+	}
+	return first, (from+n-1)/api.Block + 1
+}
+
 // place gives the data drive and the row of a block.
 func (h *Hoard) place(block int) (int, int) {
 	return block % h.shape.Data, block / h.shape.Data

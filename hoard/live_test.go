@@ -49,11 +49,11 @@ func TestNewHoardIsBlank(t *testing.T) {
 	for _, s := range every() {
 		h := begin(t, s.Data, s.Parity, s.Rows, s.Room)
 		x := look(t, h, s)
-		if !slices.Equal(x.Bytes, make([]byte, size(s))) || x.Steps != 0 {
+		if !slices.Equal(x.Bytes, make([]byte, size(s))) || slices.Contains(x.Gone, true) || x.Steps != 0 {
 			t.Fatalf("P4: shape %+v: %+v", s, x)
 		}
 		for d := range s.Data + s.Parity {
-			if x.Drives[d] != (api.Drive{}) || !slices.Equal(x.Cells[d], make([]api.Cell, s.Rows)) {
+			if x.Drives[d] != (api.Drive{}) || !slices.Equal(x.Cells[d], make([]api.Cell, s.Rows)) || slices.Contains(x.Available[d], false) {
 				t.Fatalf("P4: shape %+v: drive %d: %+v", s, d, x)
 			}
 		}

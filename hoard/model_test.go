@@ -5,15 +5,19 @@ import (
 	"testing"
 
 	"hoard/api"
+	"hoard/hoard"
 )
 
-// model is a hoard that keeps all records that ever were, and how many of them are merged.
+// model is a hoard that never forgets a byte. It only keeps count of what may
+// be seen: so it solves no equation to tell what is on a lost drive, and finds
+// the bytes of a parity cell from its equation and what is left of the log.
 type model struct {
-	s      api.Shape
-	bytes  []byte
-	steps  int
-	all    [2][]api.Record
-	merged [2]int
+	s     api.Shape
+	bytes []byte
+	steps int
+	lost  [6]bool
+	blank [6][6]bool
+	logs  [2][]api.Record
 }
 
 // power is b times 2 to the power of c.
@@ -28,81 +32,178 @@ func power(b byte, c int) byte {
 	return byte(n)
 }
 
-func (m *model) write(from int, data []byte) {
+func (m *model) drives() int { return m.s.Data + m.s.Parity }
+
+func (m *model) has(d, row int) bool { return !m.lost[d] && !m.blank[d][row] }
+
+// short tells whether more data cells of the row are missing than there are parity cells.
+func (m *model) short(row int) bool {
+	n := 0
+	for d := range m.drives() {
+		if d < m.s.Data && !m.has(d, row) {
+			n++
+		}
+		if d >= m.s.Data && m.has(d, row) {
+			n--
+		}
+	}
+	return n > 0
+}
+
+func (m *model) gone(block int) bool {
+	row := block / m.s.Data
+	return !m.has(block%m.s.Data, row) && m.short(row)
+}
+
+func (m *model) write(from int, data []byte) api.Errno {
+	for i := range data {
+		if m.gone((from + i) / 4) {
+			return api.ErrLost
+		}
+	}
 	after := append([]byte{}, m.bytes...)
 	copy(after[from:], data)
 	for b := range len(after) / 4 {
-		old, now := [4]byte(m.bytes[b*4:]), [4]byte(after[b*4:])
-		if old == now {
-			continue
+		if [4]byte(m.bytes[b*4:]) != [4]byte(after[b*4:]) {
+			m.writeBlock(b, [4]byte(m.bytes[b*4:]), [4]byte(after[b*4:]))
 		}
-		for p := range m.s.Parity {
-			r := api.Record{Row: b / m.s.Data}
-			for i := range 4 {
-				r.Bytes[i] = power(old[i]^now[i], p*(b%m.s.Data))
-			}
-			m.all[p] = append(m.all[p], r)
-			m.merged[p] = max(m.merged[p], len(m.all[p])-m.s.Room)
-		}
-		m.steps += 3 + m.s.Parity
 	}
 	m.bytes = after
+	return api.OK
 }
 
-func (m *model) merge(p, n int) int {
-	before := m.merged[p]
-	m.merged[p] = min(before+n, len(m.all[p]))
-	return m.merged[p] - before
+func (m *model) writeBlock(b int, old, now [4]byte) {
+	c, row := b%m.s.Data, b/m.s.Data
+	m.steps += 2
+	for p := range m.s.Parity {
+		if !m.has(m.s.Data+p, row) {
+			continue
+		}
+		r := api.Record{Row: row}
+		for i := range 4 {
+			r.Bytes[i] = power(old[i]^now[i], p*c)
+		}
+		l := append(m.logs[p], r)
+		m.logs[p] = l[max(0, len(l)-m.s.Room):]
+		m.steps++
+	}
+	if !m.lost[c] {
+		m.blank[c][row] = false
+		m.steps++
+	}
+}
+
+func (m *model) merge(d, n int) (int, api.Errno) {
+	switch {
+	case d < m.s.Data || d >= m.drives():
+		return 0, api.ErrDrive
+	case m.lost[d]:
+		return 0, api.ErrState
+	case n < 1:
+		return 0, api.ErrArg
+	}
+	l := &m.logs[d-m.s.Data]
+	n = min(n, len(*l))
+	*l = (*l)[n:]
+	return n, api.OK
+}
+
+func (m *model) fail(d int) api.Errno {
+	switch {
+	case d < 0 || d >= m.drives():
+		return api.ErrDrive
+	case m.lost[d]:
+		return api.ErrState
+	}
+	m.lost[d] = true
+	if d >= m.s.Data {
+		m.logs[d-m.s.Data] = nil
+	}
+	return api.OK
+}
+
+func (m *model) replace(d int) api.Errno {
+	switch {
+	case d < 0 || d >= m.drives():
+		return api.ErrDrive
+	case !m.lost[d]:
+		return api.ErrState
+	}
+	m.lost[d] = false
+	for row := range m.s.Rows {
+		m.blank[d][row] = true
+	}
+	return api.OK
+}
+
+func (m *model) rebuild(d, n int) (int, api.Errno) {
+	switch {
+	case d < 0 || d >= m.drives():
+		return 0, api.ErrDrive
+	case m.lost[d]:
+		return 0, api.ErrState
+	case n < 1:
+		return 0, api.ErrArg
+	}
+	k := 0
+	for row := range m.s.Rows {
+		if k < n && m.blank[d][row] && !m.short(row) {
+			m.blank[d][row] = false
+			k++
+		}
+	}
+	return k, api.OK
+}
+
+// cell gives the bytes of a cell.
+func (m *model) cell(d, row int) api.Cell {
+	if d < m.s.Data {
+		return api.Cell(m.bytes[(row*m.s.Data+d)*4:])
+	}
+	p := d - m.s.Data
+	var sum api.Cell
+	for c := range m.s.Data {
+		for i, b := range m.cell(c, row) {
+			sum[i] ^= power(b, p*c)
+		}
+	}
+	for _, r := range m.logs[p] {
+		for i, b := range r.Bytes {
+			if r.Row == row {
+				sum[i] ^= b
+			}
+		}
+	}
+	return sum
 }
 
 func (m *model) look() state {
-	x := state{Bytes: m.bytes, Steps: m.steps}
-	for d := range m.s.Data {
-		x.Drives = append(x.Drives, api.Drive{})
-		column := make([]api.Cell, m.s.Rows)
-		for row := range column {
-			copy(column[row][:], m.bytes[(row*m.s.Data+d)*4:])
+	x := state{Bytes: append([]byte{}, m.bytes...), Steps: m.steps}
+	for b := range len(m.bytes) / 4 {
+		x.Gone = append(x.Gone, m.gone(b))
+		if m.gone(b) {
+			copy(x.Bytes[b*4:], make([]byte, 4))
 		}
-		x.Cells = append(x.Cells, column)
 	}
-	for p := range m.s.Parity {
-		left := m.all[p][m.merged[p]:]
-		column := make([]api.Cell, m.s.Rows)
-		for _, r := range m.all[p][:m.merged[p]] {
-			for i, b := range r.Bytes {
-				column[r.Row][i] ^= b
+	for d := range m.drives() {
+		y := api.Drive{Lost: m.lost[d]}
+		cells, available := make([]api.Cell, m.s.Rows), make([]bool, m.s.Rows)
+		for row := range m.s.Rows {
+			if m.has(d, row) {
+				cells[row], available[row] = m.cell(d, row), true
+			} else if !m.lost[d] {
+				y.Unbuilt++
 			}
 		}
-		x.Drives = append(x.Drives, api.Drive{Records: len(left)})
-		x.Cells = append(x.Cells, column)
-		x.Logs = append(x.Logs, append([]api.Record{}, left...))
+		if d >= m.s.Data {
+			l := m.logs[d-m.s.Data]
+			y.Records = len(l)
+			x.Logs = append(x.Logs, append([]api.Record{}, l...))
+		}
+		x.Drives = append(x.Drives, y)
+		x.Cells, x.Available = append(x.Cells, cells), append(x.Available, available)
 	}
 	return x
-}
-
-// wantEquations: the value of each parity cell is the sum that its equation tells.
-func wantEquations(t *testing.T, s api.Shape, x state) {
-	t.Helper()
-	for p := range s.Parity {
-		for row := range s.Rows {
-			sum := x.Cells[s.Data+p][row]
-			for _, r := range x.Logs[p] {
-				for i := range sum {
-					if r.Row == row {
-						sum[i] ^= r.Bytes[i]
-					}
-				}
-			}
-			for c := range s.Data {
-				for i := range sum {
-					sum[i] ^= power(x.Cells[c][row][i], p*c)
-				}
-			}
-			if sum != (api.Cell{}) {
-				t.Fatalf("P6, P7: shape %+v: row %d, parity %d: off by %v", s, row, p, sum)
-			}
-		}
-	}
 }
 
 // drawn gives some bytes from a place on, more often few than many, and often nought.
@@ -119,24 +220,72 @@ func drawn(r *rand.Rand, all int) (int, []byte) {
 	return from, l
 }
 
-func TestDrawnCalls(t *testing.T) {
+// drawnDrive gives a drive, seldom one that there is not.
+func drawnDrive(r *rand.Rand, m *model) int {
+	if r.Intn(12) == 0 {
+		return r.Intn(20) - 7
+	}
+	return r.Intn(m.drives())
+}
+
+// mayFail tells whether no byte is gone by the loss of one drive more; now and then it is done all the same.
+func mayFail(r *rand.Rand, m *model) bool {
+	n := 0
+	for d := range m.drives() {
+		if m.lost[d] || m.blank[d] != [6]bool{} {
+			n++
+		}
+	}
+	return n < m.s.Parity || r.Intn(15) == 0
+}
+
+// Of the kinds of call that drawnCall draws from, the first so many lose no drive.
+const (
+	liveKinds = 8
+	allKinds  = 16
+)
+
+// drawnCall does a drawn call on both; the answers must be the same.
+func drawnCall(t *testing.T, r *rand.Rand, h *hoard.Hoard, m *model, kinds int) {
+	t.Helper()
+	d, n := drawnDrive(r, m), r.Intn(8)
+	k, l := 0, 0
+	var e, f api.Errno
+	name := ""
+	switch i := r.Intn(kinds); {
+	case i < 6:
+		from, bytes := drawn(r, size(m.s))
+		name, e, f = "P6: Write", h.Write(from, bytes), m.write(from, bytes)
+	case i < liveKinds:
+		name = "P7: Merge"
+		k, e = h.Merge(d, n)
+		l, f = m.merge(d, n)
+	case i < 10 && mayFail(r, m):
+		name, e, f = "P8: Fail", h.Fail(d), m.fail(d)
+	case i < 12:
+		name, e, f = "P8: Replace", h.Replace(d), m.replace(d)
+	default:
+		name = "P9: Rebuild"
+		k, e = h.Rebuild(d, n)
+		l, f = m.rebuild(d, n)
+	}
+	if k != l || e != f {
+		t.Fatalf("%s: shape %+v, drive %d, number %d: %d, %d, want %d, %d", name, m.s, d, n, k, e, l, f)
+	}
+	wantState(t, h, m.s, m.look(), "after "+name)
+}
+
+func drawnCalls(t *testing.T, kinds, calls int) {
 	r := rand.New(rand.NewSource(7))
 	for _, s := range every() {
 		h := begin(t, s.Data, s.Parity, s.Rows, s.Room)
 		m := &model{s: s, bytes: make([]byte, size(s))}
-		for range 40 {
-			if r.Intn(5) == 0 {
-				p, n := r.Intn(s.Parity), 1+r.Intn(10)
-				want := m.merge(p, n)
-				wantMerge(t, h, s.Data+p, n, want)
-			} else {
-				from, l := drawn(r, size(s))
-				m.write(from, l)
-				write(t, h, from, l...)
-			}
-			x := m.look()
-			wantState(t, h, s, x, "P4 to P7")
-			wantEquations(t, s, x)
+		for range calls {
+			drawnCall(t, r, h, m, kinds)
 		}
 	}
 }
+
+func TestDrawnCallsOnLiveDrives(t *testing.T) { drawnCalls(t, liveKinds, 40) }
+
+func TestDrawnCalls(t *testing.T) { drawnCalls(t, allKinds, 150) }

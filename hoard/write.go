@@ -8,7 +8,7 @@ import (
 // writeBlock writes those bytes of data, which begins at the byte from, that lie in the block.
 func (h *Hoard) writeBlock(block int, from int, data []byte) {
 	c, row := h.place(block)
-	before := h.drives[c].cells[row]
+	before := h.holds(c, row)
 	after := overlay(before, block*api.Block-from, data)
 	if after == before {
 		return
@@ -16,11 +16,15 @@ func (h *Hoard) writeBlock(block int, from int, data []byte) {
 	h.steps++ // The block is noted: only a hoard that can go down has to keep the note.
 	change := field.Add(before, after)
 	for d := h.shape.Data; d < h.shape.Data+h.shape.Parity; d++ {
-		h.noteChange(d, c, row, change)
+		if h.drives[d].has(row) {
+			h.noteChange(d, c, row, change)
+			h.steps++
+		}
+	}
+	if !h.drives[c].lost {
+		h.drives[c].lay(row, after)
 		h.steps++
 	}
-	h.drives[c].cells[row] = after
-	h.steps++
 	h.steps++ // The note is struck out.
 }
 
