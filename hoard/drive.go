@@ -56,8 +56,8 @@ func (d *drive) value(row int) api.Cell {
 	return sum
 }
 
-// note appends a record to the log, which has room for so many records.
-func (d *drive) note(r api.Record, room int) {
+// addRecord appends a record to the log, which has room for so many records.
+func (d *drive) addRecord(r api.Record, room int) {
 	if len(d.log) >= room {
 		d.merge(1)
 	}

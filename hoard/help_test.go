@@ -147,6 +147,39 @@ func wantGone(t *testing.T, h *hoard.Hoard, from, n int) {
 	}
 }
 
+// wantDown: a Read that may be and one that may not are refused alike.
+func wantDown(t *testing.T, h *hoard.Hoard) {
+	t.Helper()
+	for _, n := range []int{0, -1} {
+		if l, e := h.Read(0, n); l != nil || e != api.ErrDown {
+			t.Errorf("P1, P10: Read(0, %d) = %v, %d, but the hoard is down", n, l, e)
+		}
+	}
+}
+
+func breakOff(t *testing.T, h *hoard.Hoard, n int) {
+	t.Helper()
+	if e := h.Break(n); e != api.OK {
+		t.Fatalf("P10: Break(%d) = %d", n, e)
+	}
+}
+
+func mount(t *testing.T, h *hoard.Hoard) {
+	t.Helper()
+	if e := h.Mount(); e != api.OK {
+		t.Fatalf("P11: Mount = %d", e)
+	}
+}
+
+// goDown writes, and the hoard must go down by that.
+func goDown(t *testing.T, h *hoard.Hoard, from int, data ...byte) {
+	t.Helper()
+	if e := h.Write(from, data); e != api.ErrDown {
+		t.Fatalf("P10: Write(%d, %v) = %d, but the hoard goes down", from, data, e)
+	}
+	wantDown(t, h)
+}
+
 // state is all that can be seen of a hoard; what is gone or not available is nought.
 type state struct {
 	Bytes     []byte

@@ -8,9 +8,12 @@ import (
 
 // Hoard keeps bytes on drives.
 type Hoard struct {
-	shape  api.Shape
-	drives [api.MaxData + api.MaxParity]drive
-	steps  int
+	shape      api.Shape
+	drives     [api.MaxData + api.MaxParity]drive
+	steps      int
+	noted      note
+	breakPoint breakPoint
+	isDown     bool
 }
 
 // Mul multiplies in the field (P3).
@@ -36,6 +39,9 @@ func New(s api.Shape) (*Hoard, api.Errno) {
 
 // Read gives bytes (P5).
 func (h *Hoard) Read(from int, n int) ([]byte, api.Errno) {
+	if h.isDown {
+		return nil, api.ErrDown
+	}
 	if !h.hasBytes(from, n) {
 		return nil, api.ErrRange
 	}
@@ -54,6 +60,9 @@ func (h *Hoard) Read(from int, n int) ([]byte, api.Errno) {
 
 // Write lays bytes (P6).
 func (h *Hoard) Write(from int, data []byte) api.Errno {
+	if h.isDown {
+		return api.ErrDown
+	}
 	if !h.hasBytes(from, len(data)) {
 		return api.ErrRange
 	}
@@ -62,18 +71,26 @@ func (h *Hoard) Write(from int, data []byte) api.Errno {
 	}
 	first, end := blocks(from, len(data))
 	for block := first; block < end; block++ {
-		h.writeBlock(block, from, data)
+		if !h.writeBlock(block, from, data) {
+			return api.ErrDown
+		}
 	}
 	return api.OK
 }
 
 // Steps tells how many steps were done (P4).
 func (h *Hoard) Steps() (int, api.Errno) {
+	if h.isDown {
+		return 0, api.ErrDown
+	}
 	return h.steps, api.OK
 }
 
 // Drive tells how a drive is (P4).
 func (h *Hoard) Drive(d int) (api.Drive, api.Errno) {
+	if h.isDown {
+		return api.Drive{}, api.ErrDown
+	}
 	if !h.isDrive(d) {
 		return api.Drive{}, api.ErrDrive
 	}
@@ -83,6 +100,9 @@ func (h *Hoard) Drive(d int) (api.Drive, api.Errno) {
 
 // Cell gives the bytes of a cell (P7).
 func (h *Hoard) Cell(d int, row int) (api.Cell, api.Errno) {
+	if h.isDown {
+		return api.Cell{}, api.ErrDown
+	}
 	if !h.isDrive(d) {
 		return api.Cell{}, api.ErrDrive
 	}
@@ -97,6 +117,9 @@ func (h *Hoard) Cell(d int, row int) (api.Cell, api.Errno) {
 
 // Log gives the records of a log (P7).
 func (h *Hoard) Log(d int) ([]api.Record, api.Errno) {
+	if h.isDown {
+		return nil, api.ErrDown
+	}
 	if !h.isParity(d) {
 		return nil, api.ErrDrive
 	}
@@ -108,6 +131,9 @@ func (h *Hoard) Log(d int) ([]api.Record, api.Errno) {
 
 // Merge merges records (P7).
 func (h *Hoard) Merge(d int, n int) (int, api.Errno) {
+	if h.isDown {
+		return 0, api.ErrDown
+	}
 	if !h.isParity(d) {
 		return 0, api.ErrDrive
 	}
@@ -122,6 +148,9 @@ func (h *Hoard) Merge(d int, n int) (int, api.Errno) {
 
 // Fail loses a drive (P8).
 func (h *Hoard) Fail(d int) api.Errno {
+	if h.isDown {
+		return api.ErrDown
+	}
 	if !h.isDrive(d) {
 		return api.ErrDrive
 	}
@@ -134,6 +163,9 @@ func (h *Hoard) Fail(d int) api.Errno {
 
 // Replace puts a blank drive in the place of a lost one (P8).
 func (h *Hoard) Replace(d int) api.Errno {
+	if h.isDown {
+		return api.ErrDown
+	}
 	if !h.isDrive(d) {
 		return api.ErrDrive
 	}
@@ -146,6 +178,9 @@ func (h *Hoard) Replace(d int) api.Errno {
 
 // Rebuild builds cells (P9).
 func (h *Hoard) Rebuild(d int, n int) (int, api.Errno) {
+	if h.isDown {
+		return 0, api.ErrDown
+	}
 	if !h.isDrive(d) {
 		return 0, api.ErrDrive
 	}
@@ -165,13 +200,42 @@ func (h *Hoard) Rebuild(d int, n int) (int, api.Errno) {
 }
 
 // Break lets the hoard go down later (P10).
-func (h *Hoard) Break(n int) api.Errno { return api.OK }
+func (h *Hoard) Break(n int) api.Errno {
+	if h.isDown {
+		return api.ErrDown
+	}
+	if n < 0 || n > api.MaxBreak {
+		return api.ErrArg
+	}
+	h.breakPoint = breakPoint{isSet: true, behind: h.steps + n}
+	return api.OK
+}
 
 // Mount brings the hoard up again (P11).
-func (h *Hoard) Mount() api.Errno { return api.OK }
+func (h *Hoard) Mount() api.Errno {
+	if !h.isDown {
+		return api.ErrState
+	}
+	for i := h.noted.done; i < len(h.noted.takers); i++ {
+		h.takeIn(h.noted.takers[i])
+	}
+	h.noted = note{}
+	h.isDown = false
+	return api.OK
+}
 
 // Corrupt lets a byte go bad (P12).
-func (h *Hoard) Corrupt(d int, row int, at int, by uint8) api.Errno { return api.OK }
+func (h *Hoard) Corrupt(d int, row int, at int, by uint8) api.Errno {
+	if h.isDown {
+		return api.ErrDown
+	}
+	return api.OK
+}
 
 // Scrub looks whether a row's bytes are right, and mends them (P13).
-func (h *Hoard) Scrub(row int) (int, api.Errno) { return 0, api.OK }
+func (h *Hoard) Scrub(row int) (int, api.Errno) {
+	if h.isDown {
+		return 0, api.ErrDown
+	}
+	return 0, api.OK
+}

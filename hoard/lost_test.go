@@ -165,24 +165,8 @@ func TestEachLoss(t *testing.T) {
 		if s.Rows > 2 || s.Room != 3 {
 			continue
 		}
-		drives := s.Data + s.Parity
-		for choice := range 1 << (2 * drives) {
-			h := filled(t, s)
-			m := &model{s: s, bytes: look(t, h, s).Bytes}
-			m.steps, _ = h.Steps()
-			for d := s.Data; d < drives; d++ {
-				m.logs[d-s.Data], _ = h.Log(d)
-			}
-			for d := range drives {
-				if choice>>(2*d)&1 == 1 {
-					fail(t, h, d)
-					m.fail(d)
-				}
-				if choice>>(2*d)&3 == 3 {
-					replace(t, h, d)
-					m.replace(d)
-				}
-			}
+		for choice := range 1 << (2 * (s.Data + s.Parity)) {
+			h, m := laid(t, s, choice)
 			wantState(t, h, s, m.look(), "P5, P8: lost drives")
 		}
 	}

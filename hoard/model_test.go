@@ -10,7 +10,8 @@ import (
 
 // model is a hoard that never forgets a byte. It only keeps count of what may
 // be seen: so it solves no equation to tell what is on a lost drive, and finds
-// the bytes of a parity cell from its equation and what is left of the log.
+// the bytes of a parity cell from its equation and what is left of the log. A
+// block it writes whole or not at all: all it knows of steps is how many there are.
 type model struct {
 	s     api.Shape
 	bytes []byte
@@ -18,6 +19,8 @@ type model struct {
 	lost  [6]bool
 	blank [6][6]bool
 	logs  [2][]api.Record
+	down  bool
+	left  []int // of a Break that is to come, how many more steps
 }
 
 // power is b times 2 to the power of c.
@@ -56,6 +59,9 @@ func (m *model) gone(block int) bool {
 }
 
 func (m *model) write(from int, data []byte) api.Errno {
+	if m.down {
+		return api.ErrDown
+	}
 	for i := range data {
 		if m.gone((from + i) / 4) {
 			return api.ErrLost
@@ -64,37 +70,84 @@ func (m *model) write(from int, data []byte) api.Errno {
 	after := append([]byte{}, m.bytes...)
 	copy(after[from:], data)
 	for b := range len(after) / 4 {
-		if [4]byte(m.bytes[b*4:]) != [4]byte(after[b*4:]) {
-			m.writeBlock(b, [4]byte(m.bytes[b*4:]), [4]byte(after[b*4:]))
+		now := [4]byte(after[b*4:])
+		if now == [4]byte(m.bytes[b*4:]) {
+			continue
+		}
+		n := m.stepsOf(b)
+		if m.left != nil && m.left[0] < n {
+			if m.left[0] > 0 {
+				m.writeBlock(b, now)
+			}
+			m.steps += m.left[0]
+			m.left, m.down = nil, true
+			return api.ErrDown
+		}
+		m.writeBlock(b, now)
+		m.steps += n
+		if m.left != nil {
+			m.left[0] -= n
 		}
 	}
-	m.bytes = after
 	return api.OK
 }
 
-func (m *model) writeBlock(b int, old, now [4]byte) {
+// stepsOf tells of how many steps a Write of the block is.
+func (m *model) stepsOf(b int) int {
+	n := 2
+	for p := range m.s.Parity {
+		if m.has(m.s.Data+p, b/m.s.Data) {
+			n++
+		}
+	}
+	if !m.lost[b%m.s.Data] {
+		n++
+	}
+	return n
+}
+
+func (m *model) writeBlock(b int, now [4]byte) {
 	c, row := b%m.s.Data, b/m.s.Data
-	m.steps += 2
 	for p := range m.s.Parity {
 		if !m.has(m.s.Data+p, row) {
 			continue
 		}
 		r := api.Record{Row: row}
 		for i := range 4 {
-			r.Bytes[i] = power(old[i]^now[i], p*c)
+			r.Bytes[i] = power(m.bytes[b*4+i]^now[i], p*c)
 		}
 		l := append(m.logs[p], r)
 		m.logs[p] = l[max(0, len(l)-m.s.Room):]
-		m.steps++
 	}
 	if !m.lost[c] {
 		m.blank[c][row] = false
-		m.steps++
 	}
+	copy(m.bytes[b*4:], now[:])
+}
+
+func (m *model) breakOff(n int) api.Errno {
+	switch {
+	case m.down:
+		return api.ErrDown
+	case n < 0 || n > 1000:
+		return api.ErrArg
+	}
+	m.left = []int{n}
+	return api.OK
+}
+
+func (m *model) mount() api.Errno {
+	if !m.down {
+		return api.ErrState
+	}
+	m.down = false
+	return api.OK
 }
 
 func (m *model) merge(d, n int) (int, api.Errno) {
 	switch {
+	case m.down:
+		return 0, api.ErrDown
 	case d < m.s.Data || d >= m.drives():
 		return 0, api.ErrDrive
 	case m.lost[d]:
@@ -110,6 +163,8 @@ func (m *model) merge(d, n int) (int, api.Errno) {
 
 func (m *model) fail(d int) api.Errno {
 	switch {
+	case m.down:
+		return api.ErrDown
 	case d < 0 || d >= m.drives():
 		return api.ErrDrive
 	case m.lost[d]:
@@ -124,6 +179,8 @@ func (m *model) fail(d int) api.Errno {
 
 func (m *model) replace(d int) api.Errno {
 	switch {
+	case m.down:
+		return api.ErrDown
 	case d < 0 || d >= m.drives():
 		return api.ErrDrive
 	case !m.lost[d]:
@@ -138,6 +195,8 @@ func (m *model) replace(d int) api.Errno {
 
 func (m *model) rebuild(d, n int) (int, api.Errno) {
 	switch {
+	case m.down:
+		return 0, api.ErrDown
 	case d < 0 || d >= m.drives():
 		return 0, api.ErrDrive
 	case m.lost[d]:
@@ -206,6 +265,30 @@ func (m *model) look() state {
 	return x
 }
 
+// laid gives a hoard with filled cells and logs, of whose drives some are lost
+// or blank: of a drive's two bits of the choice the lower one tells that it was
+// lost, the other that it was replaced. The model is of the same state.
+func laid(t *testing.T, s api.Shape, choice int) (*hoard.Hoard, *model) {
+	t.Helper()
+	h := filled(t, s)
+	m := &model{s: s, bytes: look(t, h, s).Bytes}
+	m.steps, _ = h.Steps()
+	for d := range s.Data + s.Parity {
+		if d >= s.Data {
+			m.logs[d-s.Data], _ = h.Log(d)
+		}
+		if choice>>(2*d)&1 == 1 {
+			fail(t, h, d)
+			m.fail(d)
+		}
+		if choice>>(2*d)&3 == 3 {
+			replace(t, h, d)
+			m.replace(d)
+		}
+	}
+	return h, m
+}
+
 // drawn gives some bytes from a place on, more often few than many, and often nought.
 func drawn(r *rand.Rand, all int) (int, []byte) {
 	from := r.Intn(all + 1)
@@ -239,11 +322,20 @@ func mayFail(r *rand.Rand, m *model) bool {
 	return n < m.s.Parity || r.Intn(15) == 0
 }
 
-// Of the kinds of call that drawnCall draws from, the first so many lose no drive.
+// Of the kinds of call that drawnCall draws from, the first so many lose no drive, or do not let the hoard go down.
 const (
 	liveKinds = 8
-	allKinds  = 16
+	upKinds   = 16
+	allKinds  = 20
 )
+
+// drawnBreak gives a number for Break, seldom one that may not be.
+func drawnBreak(r *rand.Rand) int {
+	if r.Intn(12) == 0 {
+		return []int{-1, 1000, 1001}[r.Intn(3)]
+	}
+	return r.Intn(15)
+}
 
 // drawnCall does a drawn call on both; the answers must be the same.
 func drawnCall(t *testing.T, r *rand.Rand, h *hoard.Hoard, m *model, kinds int) {
@@ -253,9 +345,12 @@ func drawnCall(t *testing.T, r *rand.Rand, h *hoard.Hoard, m *model, kinds int) 
 	var e, f api.Errno
 	name := ""
 	switch i := r.Intn(kinds); {
+	case m.down && i%2 == 0 || i == 19:
+		name, e, f = "P11: Mount", h.Mount(), m.mount()
 	case i < 6:
 		from, bytes := drawn(r, size(m.s))
-		name, e, f = "P6: Write", h.Write(from, bytes), m.write(from, bytes)
+		name, e, f = "P6, P10: Write", h.Write(from, bytes), m.write(from, bytes)
+		spoilBytes(bytes)
 	case i < liveKinds:
 		name = "P7: Merge"
 		k, e = h.Merge(d, n)
@@ -264,13 +359,20 @@ func drawnCall(t *testing.T, r *rand.Rand, h *hoard.Hoard, m *model, kinds int) 
 		name, e, f = "P8: Fail", h.Fail(d), m.fail(d)
 	case i < 12:
 		name, e, f = "P8: Replace", h.Replace(d), m.replace(d)
-	default:
+	case i < upKinds:
 		name = "P9: Rebuild"
 		k, e = h.Rebuild(d, n)
 		l, f = m.rebuild(d, n)
+	default:
+		n = drawnBreak(r)
+		name, e, f = "P10: Break", h.Break(n), m.breakOff(n)
 	}
 	if k != l || e != f {
 		t.Fatalf("%s: shape %+v, drive %d, number %d: %d, %d, want %d, %d", name, m.s, d, n, k, e, l, f)
+	}
+	if m.down {
+		wantDown(t, h)
+		return
 	}
 	wantState(t, h, m.s, m.look(), "after "+name)
 }
@@ -288,4 +390,6 @@ func drawnCalls(t *testing.T, kinds, calls int) {
 
 func TestDrawnCallsOnLiveDrives(t *testing.T) { drawnCalls(t, liveKinds, 40) }
 
-func TestDrawnCalls(t *testing.T) { drawnCalls(t, allKinds, 150) }
+func TestDrawnCallsThatStayUp(t *testing.T) { drawnCalls(t, upKinds, 150) }
+
+func TestDrawnCalls(t *testing.T) { drawnCalls(t, allKinds, 200) }
