@@ -229,6 +229,16 @@ func (h *Hoard) Corrupt(d int, row int, at int, by uint8) api.Errno {
 	if h.isDown {
 		return api.ErrDown
 	}
+	if !h.isDrive(d) {
+		return api.ErrDrive
+	}
+	if !h.isRow(row) || at < 0 || at >= api.Block {
+		return api.ErrArg
+	}
+	if !h.drives[d].has(row) {
+		return api.ErrState
+	}
+	h.drives[d].cells[row][at] ^= by
 	return api.OK
 }
 
@@ -237,5 +247,19 @@ func (h *Hoard) Scrub(row int) (int, api.Errno) {
 	if h.isDown {
 		return 0, api.ErrDown
 	}
-	return 0, api.OK
+	if !h.isRow(row) {
+		return 0, api.ErrArg
+	}
+	if !h.isWhole(row) {
+		return 0, api.ErrState
+	}
+	if h.equationsHold(row) {
+		return -1, api.OK
+	}
+	drives := h.explaining(row)
+	if len(drives) != 1 {
+		return 0, api.ErrBad
+	}
+	h.mend(drives[0], row)
+	return drives[0], api.OK
 }

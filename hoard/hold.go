@@ -69,7 +69,7 @@ func (h *Hoard) holds(c int, row int) api.Cell {
 // solveOne gives what data drive c must have in the row, where it alone is
 // missing, so that the equation of parity drive d holds.
 func (h *Hoard) solveOne(c int, row int, d int) api.Cell {
-	rest := h.missingSum(d, row)
+	rest := h.gap(d, row)
 	w := h.weight(d, c)
 	return field.Scale(field.Div(1, w), rest)
 }
@@ -81,14 +81,16 @@ func (h *Hoard) solveTwo(c int, other int, row int, d int, e int) api.Cell {
 	// equation: in the sum of the two the other drive's cell falls out.
 	a := h.weight(e, other)
 	b := h.weight(d, other)
-	ofD := field.Scale(a, h.missingSum(d, row))
-	ofE := field.Scale(b, h.missingSum(e, row))
+	ofD := field.Scale(a, h.gap(d, row))
+	ofE := field.Scale(b, h.gap(e, row))
 	times := field.Mul(a, h.weight(d, c)) ^ field.Mul(b, h.weight(e, c))
 	return field.Scale(field.Div(1, times), field.Add(ofD, ofE))
 }
 
-// missingSum gives what the missing data cells of the row must add up to in the equation of parity drive d.
-func (h *Hoard) missingSum(d int, row int) api.Cell {
+// gap gives by what the available cells of the row fall short of the equation
+// of parity drive d: what the missing data cells must add up to in it, and
+// noughts if none is missing and the equation holds.
+func (h *Hoard) gap(d int, row int) api.Cell {
 	sum := h.drives[d].value(row)
 	for c := 0; c < h.shape.Data; c++ {
 		if h.drives[c].has(row) {

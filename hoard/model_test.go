@@ -12,6 +12,7 @@ import (
 // be seen: so it solves no equation to tell what is on a lost drive, and finds
 // the bytes of a parity cell from its equation and what is left of the log. A
 // block it writes whole or not at all: all it knows of steps is how many there are.
+// Only where bytes went bad it tries out which numbers fit (bad_model_test.go).
 type model struct {
 	s     api.Shape
 	bytes []byte
@@ -20,7 +21,8 @@ type model struct {
 	blank [6][6]bool
 	logs  [2][]api.Record
 	down  bool
-	left  []int // of a Break that is to come, how many more steps
+	left  []int          // of a Break that is to come, how many more steps
+	off   [2][6]api.Cell // of each parity cell, by what its value is not what its equation asks
 }
 
 // power is b times 2 to the power of c.
@@ -174,6 +176,9 @@ func (m *model) fail(d int) api.Errno {
 	if d >= m.s.Data {
 		m.logs[d-m.s.Data] = nil
 	}
+	for row := range m.s.Rows {
+		m.settle(row)
+	}
 	return api.OK
 }
 
@@ -208,6 +213,9 @@ func (m *model) rebuild(d, n int) (int, api.Errno) {
 	for row := range m.s.Rows {
 		if k < n && m.blank[d][row] && !m.short(row) {
 			m.blank[d][row] = false
+			if d >= m.s.Data {
+				m.off[d-m.s.Data][row] = api.Cell{}
+			}
 			k++
 		}
 	}
@@ -220,7 +228,7 @@ func (m *model) cell(d, row int) api.Cell {
 		return api.Cell(m.bytes[(row*m.s.Data+d)*4:])
 	}
 	p := d - m.s.Data
-	var sum api.Cell
+	sum := m.off[p][row]
 	for c := range m.s.Data {
 		for i, b := range m.cell(c, row) {
 			sum[i] ^= power(b, p*c)
@@ -322,11 +330,12 @@ func mayFail(r *rand.Rand, m *model) bool {
 	return n < m.s.Parity || r.Intn(15) == 0
 }
 
-// Of the kinds of call that drawnCall draws from, the first so many lose no drive, or do not let the hoard go down.
+// Letters for the calls that drawnCall draws from, each as often as it stands there.
 const (
-	liveKinds = 8
-	upKinds   = 16
-	allKinds  = 20
+	live = "wwwwwwmm" // Write, Merge
+	lost = "ffrrbbbb" // Fail, Replace, Rebuild
+	down = "kkku"     // Break, Mount
+	bad  = "cccsss"   // Corrupt, Scrub
 )
 
 // drawnBreak gives a number for Break, seldom one that may not be.
@@ -337,32 +346,58 @@ func drawnBreak(r *rand.Rand) int {
 	return r.Intn(15)
 }
 
+// drawnRow gives a row, seldom one that there is not.
+func drawnRow(r *rand.Rand, m *model) int {
+	if r.Intn(12) == 0 {
+		return r.Intn(20) - 7
+	}
+	return r.Intn(m.s.Rows)
+}
+
+// drawnByte gives the place of a byte in a cell, seldom one that there is not, and what is added to it, often nought.
+func drawnByte(r *rand.Rand) (int, byte) {
+	at := r.Intn(4)
+	if r.Intn(12) == 0 {
+		at = r.Intn(20) - 7
+	}
+	return at, byte(r.Intn(2) * r.Intn(256))
+}
+
 // drawnCall does a drawn call on both; the answers must be the same.
-func drawnCall(t *testing.T, r *rand.Rand, h *hoard.Hoard, m *model, kinds int) {
+func drawnCall(t *testing.T, r *rand.Rand, h *hoard.Hoard, m *model, letters string) {
 	t.Helper()
 	d, n := drawnDrive(r, m), r.Intn(8)
 	k, l := 0, 0
 	var e, f api.Errno
 	name := ""
-	switch i := r.Intn(kinds); {
-	case m.down && i%2 == 0 || i == 19:
+	switch letter := letters[r.Intn(len(letters))]; {
+	case letter == 'u' || m.down && r.Intn(2) == 0:
 		name, e, f = "P11: Mount", h.Mount(), m.mount()
-	case i < 6:
+	case letter == 'w':
 		from, bytes := drawn(r, size(m.s))
 		name, e, f = "P6, P10: Write", h.Write(from, bytes), m.write(from, bytes)
 		spoilBytes(bytes)
-	case i < liveKinds:
+	case letter == 'm':
 		name = "P7: Merge"
 		k, e = h.Merge(d, n)
 		l, f = m.merge(d, n)
-	case i < 10 && mayFail(r, m):
+	case letter == 'f' && mayFail(r, m):
 		name, e, f = "P8: Fail", h.Fail(d), m.fail(d)
-	case i < 12:
+	case letter == 'f' || letter == 'r':
 		name, e, f = "P8: Replace", h.Replace(d), m.replace(d)
-	case i < upKinds:
+	case letter == 'b':
 		name = "P9: Rebuild"
 		k, e = h.Rebuild(d, n)
 		l, f = m.rebuild(d, n)
+	case letter == 's':
+		n = drawnRow(r, m)
+		name = "P13: Scrub"
+		k, e = h.Scrub(n)
+		l, f = m.scrub(n)
+	case letter == 'c':
+		n = drawnRow(r, m)
+		at, by := drawnByte(r)
+		name, e, f = "P12: Corrupt", h.Corrupt(d, n, at, by), m.corrupt(d, n, at, by)
 	default:
 		n = drawnBreak(r)
 		name, e, f = "P10: Break", h.Break(n), m.breakOff(n)
@@ -377,19 +412,23 @@ func drawnCall(t *testing.T, r *rand.Rand, h *hoard.Hoard, m *model, kinds int) 
 	wantState(t, h, m.s, m.look(), "after "+name)
 }
 
-func drawnCalls(t *testing.T, kinds, calls int) {
+func drawnCalls(t *testing.T, letters string, calls int) {
 	r := rand.New(rand.NewSource(7))
 	for _, s := range every() {
 		h := begin(t, s.Data, s.Parity, s.Rows, s.Room)
 		m := &model{s: s, bytes: make([]byte, size(s))}
 		for range calls {
-			drawnCall(t, r, h, m, kinds)
+			drawnCall(t, r, h, m, letters)
 		}
 	}
 }
 
-func TestDrawnCallsOnLiveDrives(t *testing.T) { drawnCalls(t, liveKinds, 40) }
+func TestDrawnCallsOnLiveDrives(t *testing.T) { drawnCalls(t, live, 40) }
 
-func TestDrawnCallsThatStayUp(t *testing.T) { drawnCalls(t, upKinds, 150) }
+func TestDrawnCallsOfLostDrives(t *testing.T) { drawnCalls(t, live+lost, 150) }
 
-func TestDrawnCalls(t *testing.T) { drawnCalls(t, allKinds, 200) }
+func TestDrawnCallsThatGoDown(t *testing.T) { drawnCalls(t, live+lost+down, 200) }
+
+func TestDrawnCallsOfBadBytes(t *testing.T) { drawnCalls(t, live+bad, 100) }
+
+func TestDrawnCalls(t *testing.T) { drawnCalls(t, live+lost+down+bad, 300) }
